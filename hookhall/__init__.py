@@ -1,0 +1,1 @@
+"""Hookhall: a hall into which others hang their work."""
