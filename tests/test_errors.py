@@ -27,13 +27,22 @@ class ErrorClasses(unittest.TestCase):
                 with self.subTest(one=one, other=other):
                     self.assertEqual(issubclass(one, other), one.__name__ == other.__name__)
 
-    def test_plain_ones_are_caught_by_name_and_as_hall_error(self):
-        for name in PLAIN:
-            refusal = getattr(errors, name)
-            for caught in (refusal, HallError, ValueError):
-                with self.subTest(name=name, caught=caught):
-                    with self.assertRaises(caught):
-                        raise refusal("words")
+    def made(self):
+        plain = [getattr(errors, name)("words") for name in PLAIN]
+        return plain + [Ring(["a"]), Barred("a", "b"), DeedFault("a", 1)]
+
+    def test_each_is_taken_by_its_name_and_as_hall_error(self):
+        for refusal in self.made():
+            for taker in (type(refusal), HallError, ValueError):
+                with self.subTest(refusal=refusal, taker=taker):
+                    with self.assertRaises(taker):
+                        raise refusal
+
+    def test_none_is_taken_by_another(self):
+        for refusal in self.made():
+            for taker in self.refusals():
+                with self.subTest(refusal=refusal, taker=taker):
+                    self.assertEqual(isinstance(refusal, taker), type(refusal).__name__ == taker.__name__)
 
 
 class Fields(unittest.TestCase):

@@ -25,6 +25,10 @@ METHODS_IN = set(
     " items join keys ljust lower lstrip partition pop remove replace reverse rfind rjust rpartition rsplit rstrip"
     " setdefault split splitlines startswith strip update upper values zfill bit_length".split()
 )
+KEYWORDS_IN = {
+    "sorted": {"key", "reverse"}, "min": {"key", "default"}, "max": {"key", "default"},
+    "sum": {"start"}, "enumerate": {"start"}, "zip": {"strict"},
+}
 PYTHONS_METHODS = {name for kind in (str, int, list, dict, set, tuple, bytes) for name in dir(kind)}
 NODES_OUT = (
     ast.With, ast.Match, ast.Delete, ast.Global, ast.Nonlocal, ast.Assert, ast.Yield, ast.YieldFrom, ast.Await,
@@ -105,6 +109,64 @@ class Language(unittest.TestCase):
                         self.assertIsInstance(node.ctx, ast.Load)
                 for node in nodes(tree, ast.FunctionDef):
                     self.assertTrue(not node.name.startswith("_") or node.name in OWN_METHODS, node.name)
+
+    def test_is_beside_none_true_and_false_alone(self):
+        for path, tree in files_and_trees():
+            with self.subTest(file=path.name):
+                for node in nodes(tree, ast.Compare):
+                    for sign, right in zip(node.ops, node.comparators):
+                        if isinstance(sign, (ast.Is, ast.IsNot)):
+                            self.assertIn(ast.unparse(right), ("None", "True", "False"))
+
+    def test_texts(self):
+        for path, tree in files_and_trees():
+            with self.subTest(file=path.name):
+                for node in nodes(tree, ast.FormattedValue):
+                    self.assertIsInstance(node.value, ast.Name)
+                    self.assertIsNone(node.format_spec)
+                for node in nodes(tree, ast.Constant):
+                    if isinstance(node.value, str):
+                        self.assertNotIn("%", node.value)
+
+    def test_each_name_once_at_the_top(self):
+        for path, tree in files_and_trees():
+            with self.subTest(file=path.name):
+                bound = []
+                for node in tree.body:
+                    if isinstance(node, ast.ImportFrom):
+                        bound.extend(alias.asname or alias.name for alias in node.names)
+                    elif isinstance(node, (ast.FunctionDef, ast.ClassDef)):
+                        bound.append(node.name)
+                    elif isinstance(node, ast.Assign):
+                        bound.append(node.targets[0].id)
+                self.assertEqual(len(bound), len(set(bound)))
+                # Narrower than the rule: no local is called like a function of its file either.
+                local = [node.id for node in nodes(tree, ast.Name) if isinstance(node.ctx, ast.Store)]
+                local = [name for name in local if not name.isupper()] + [node.arg for node in nodes(tree, ast.arg)]
+                self.assertEqual(sorted(set(local) & set(bound)), [])
+
+    def test_no_two_files_draw_from_one_another(self):
+        drawn = {}
+        for path, tree in files_and_trees():
+            drawn["hookhall." + path.stem] = {node.module for node in nodes(tree, ast.ImportFrom)}
+        while drawn:
+            ready = [name for name, others in drawn.items() if not others & set(drawn)]
+            self.assertNotEqual(ready, [], drawn)
+            for name in ready:
+                drawn.pop(name)
+
+    def test_keywords_at_pythons_own(self):
+        for path, tree in files_and_trees():
+            with self.subTest(file=path.name):
+                for node in nodes(tree, ast.Call):
+                    if isinstance(node.func, ast.Name) and hasattr(builtins, node.func.id):
+                        told = {keyword.arg for keyword in node.keywords}
+                        self.assertLessEqual(told, KEYWORDS_IN.get(node.func.id, set()))
+
+    def test_sets_are_not_written_out(self):
+        for path, tree in files_and_trees():
+            with self.subTest(file=path.name):
+                self.assertEqual(nodes(tree, ast.Set), [])
 
     def test_methods_and_values(self):
         methods, kept = {}, {}
